@@ -5,7 +5,9 @@ import inspect
 import unittest
 
 from planwright.deeds import Deed
+from planwright.marks import Priced, PricedDeed
 from planwright.problems import Problem
+from planwright.tables import Table
 
 FUNCTIONS = {
     "planwright.deeds": {
@@ -31,6 +33,58 @@ FUNCTIONS = {
         "comes": "(problem, plan)",
         "useless": "(problem, most=2000)",
         "dead_ends": "(problem, most=2000)",
+    },
+    "planwright.searches": {
+        "cheapest": "(problem, most=2000, height=None)",
+        "queued": "(left, cost, count, state, height)",
+        "fewest": "(problem, most=2000)",
+        "all_costs": "(problem, most=2000)",
+        "check_heights": "(problem, heights, plan)",
+        "check_none": "(problem, states)",
+        "backward": "(problem, most=2000)",
+        "eager": "(problem, height, most=2000)",
+        "all_plans": "(problem, count)",
+    },
+    "planwright.relaxed": {
+        "relaxed": "(problem)",
+        "fact_costs": "(problem, state, summed)",
+        "of_row": "(costs, row, summed)",
+        "height_by_most": "(problem, state)",
+        "height_by_sum": "(problem, state)",
+        "relaxed_plan": "(problem, state)",
+        "settlers": "(problem, state, costs)",
+        "closure": "(problem, state, names)",
+        "best_relaxed": "(problem, state)",
+        "lots": "(names)",
+        "picks": "(names, size)",
+        "check_relaxed": "(problem, state, names)",
+        "in_order": "(problem, state, names)",
+    },
+    "planwright.marks": {
+        "fact_marks": "(problem, state)",
+        "comes_to": "(problem, state, names)",
+        "deed_marks": "(problem, state)",
+        "ahead_of": "(problem, state, fact)",
+        "cut_lots": "(problem, state)",
+        "costs_with": "(problem, state, costs)",
+        "one_cut": "(problem, state, costs, table)",
+        "goal_zone": "(problem, costs, table)",
+        "height_by_cuts": "(problem, state)",
+        "check_cuts": "(problem, state, lots)",
+        "count_marks": "(problem, state)",
+    },
+    "planwright.tables": {
+        "cut_down": "(problem, kept, costs=None)",
+        "within": "(row, names)",
+        "touches": "(deed, kept)",
+        "are_apart": "(problem, lots)",
+        "summed": "(tables, state)",
+        "greatest": "(tables, state)",
+        "shared_out": "(problem, lots)",
+        "tables_of": "(problem, lots, shared)",
+        "is_even": "(problem, height, states)",
+        "check_never_above": "(problem, height, costs)",
+        "sharpest": "(problem, functions, state)",
     },
 }
 CLASSES = {
@@ -60,6 +114,16 @@ CLASSES = {
             "shown": "(self)",
         },
     },
+    "planwright.marks": {
+        "Priced": {"__init__": "(self, problem, costs)"},
+        "PricedDeed": {"__init__": "(self, deed, cost)"},
+    },
+    "planwright.tables": {
+        "Table": {
+            "__init__": "(self, problem, kept, costs=None, most=500)",
+            "height": "(self, state)",
+        },
+    },
 }
 
 
@@ -85,6 +149,9 @@ class InterfaceTest(unittest.TestCase):
     def test_fields_are_set_when_an_object_is_created(self):
         self.assertEqual(set(vars(Deed("x", [], [], [], []))), {"name", "needs", "bars", "adds", "drops", "cost"})
         self.assertEqual(set(vars(Problem([], [], []))), {"start", "deeds", "goal", "bars"})
+        self.assertEqual(set(vars(Priced(Problem([], [], []), {}))), {"deeds"})
+        self.assertEqual(set(vars(PricedDeed(Deed("x", [], [], [], []), 1))), {"needs", "adds", "cost"})
+        self.assertEqual(set(vars(Table(Problem([], [], []), []))), {"kept", "costs"})
 
     def test_arguments_may_be_told_by_name(self):
         deed = Deed(name="x", needs=["n"], bars=["b"], adds=["a"], drops=["d"], cost=3)
