@@ -5,7 +5,9 @@ import inspect
 import unittest
 
 from planwright.deeds import Deed
+from planwright.layers import Layers
 from planwright.marks import Priced, PricedDeed
+from planwright.orders import Order
 from planwright.problems import Problem
 from planwright.tables import Table
 
@@ -86,6 +88,57 @@ FUNCTIONS = {
         "check_never_above": "(problem, height, costs)",
         "sharpest": "(problem, functions, state)",
     },
+    "planwright.pairs": {
+        "pair_costs": "(problem, state)",
+        "row_cost": "(table, row)",
+        "after_pairs": "(table, deed, base)",
+        "height_by_pairs": "(problem, state)",
+        "apart": "(problem)",
+        "never": "(problem)",
+        "check_apart": "(problem, rows, none=())",
+        "makes": "(deed, pair)",
+        "stopped": "(deed, pair, table, none)",
+        "one_of_each": "(problem)",
+        "greatest_lots": "(names, table)",
+        "grow": "(lot, left, names, table, found)",
+        "joins": "(lot, name, table)",
+        "stays_one": "(problem, lot)",
+        "values_of": "(state, lots)",
+    },
+    "planwright.layers": {
+        "first_layer": "(problem, most=12)",
+        "check_rows": "(problem, rows)",
+        "side_by_side": "(problem, plan)",
+        "fewest_rows": "(problem, most=6)",
+        "free_lots": "(problem, deeds)",
+    },
+    "planwright.clauses": {
+        "clauses_of": "(problem, count)",
+        "one_at_most": "(names, time)",
+        "stay": "(problem, fact, time, mark)",
+        "marks_of": "(problem, plan)",
+        "plan_of": "(marks, count)",
+        "is_right": "(clauses, marks)",
+        "marked": "(clauses)",
+        "search": "(clauses, marks)",
+        "plan_by_clauses": "(problem, most=6)",
+        "letters_of": "(clauses)",
+        "check_split": "(clauses, paper)",
+        "ends_of": "(clauses, paper, marks)",
+        "split_paper": "(clauses, marks=None)",
+    },
+    "planwright.orders": {
+        "closed": "(count, pairs)",
+        "lines": "(left, pairs)",
+        "leads": "(problem, plan)",
+        "loosened": "(problem, plan)",
+        "loosest": "(problem, plan)",
+        "checks": "(order)",
+        "short_pairs": "(pairs)",
+        "depth_of": "(order)",
+        "longest": "(order, place, found)",
+        "looseness": "(order)",
+    },
 }
 CLASSES = {
     "planwright.errors": {
@@ -124,6 +177,34 @@ CLASSES = {
             "height": "(self, state)",
         },
     },
+    "planwright.layers": {
+        "Layers": {
+            "__init__": "(self, problem, count)",
+            "add": "(self)",
+            "may": "(self, deed, there, barred)",
+            "go": "(self, one, other, barred)",
+            "needs_of": "(self, name)",
+            "adds_of": "(self, name)",
+            "are_free": "(self, one, other)",
+            "pairs_behind": "(self, there, names, apart)",
+            "holds": "(self, place)",
+            "is_level": "(self)",
+            "shown": "(self)",
+        },
+    },
+    "planwright.orders": {
+        "Order": {
+            "__init__": "(self, problem, plan, pairs)",
+            "ways": "(self)",
+            "plans": "(self)",
+            "is_right": "(self)",
+            "check": "(self)",
+            "wants": "(self, name)",
+            "ahead": "(self, place)",
+            "gives": "(self, one, fact, mark, place)",
+            "shown": "(self)",
+        },
+    },
 }
 
 
@@ -152,6 +233,10 @@ class InterfaceTest(unittest.TestCase):
         self.assertEqual(set(vars(Priced(Problem([], [], []), {}))), {"deeds"})
         self.assertEqual(set(vars(PricedDeed(Deed("x", [], [], [], []), 1))), {"needs", "adds", "cost"})
         self.assertEqual(set(vars(Table(Problem([], [], []), []))), {"kept", "costs"})
+        self.assertEqual(
+            set(vars(Layers(Problem([], [], []), 0))), {"problem", "facts", "barred", "deeds", "apart"},
+        )
+        self.assertEqual(set(vars(Order(Problem([], [], []), [], []))), {"problem", "plan", "pairs"})
 
     def test_arguments_may_be_told_by_name(self):
         deed = Deed(name="x", needs=["n"], bars=["b"], adds=["a"], drops=["d"], cost=3)

@@ -100,6 +100,33 @@ class LanguageTest(unittest.TestCase):
                     given = node.name
                 self.assertFalse(given is not None and hasattr(builtins, given), (name, given))
 
+    def test_no_import_or_class_is_given_another_meaning(self):
+        for name, tree in trees():
+            fixed = {word.name for node in ast.walk(tree) if isinstance(node, ast.ImportFrom) for word in node.names}
+            fixed |= {node.name for node in tree.body if isinstance(node, ast.ClassDef)}
+            for node in ast.walk(tree):
+                if isinstance(node, ast.Name) and isinstance(node.ctx, ast.Store):
+                    self.assertNotIn(node.id, fixed, name)
+                elif isinstance(node, ast.arg):
+                    self.assertNotIn(node.arg, fixed, name)
+
+    def test_no_two_files_import_from_each_other(self):
+        ahead = {}
+        for name, tree in trees():
+            files = [node.module for node in ast.walk(tree) if isinstance(node, ast.ImportFrom)]
+            ahead["planwright." + name[:-3]] = {file for file in files if file.startswith("planwright.")}
+        while ahead:
+            free = [file for file, files in ahead.items() if not files & set(ahead)]
+            self.assertNotEqual(free, [], sorted(ahead))
+            ahead = {file: files for file, files in ahead.items() if file not in free}
+
+    def test_sets_are_not_kept(self):
+        for name, tree in trees():
+            kept = [node for node in ast.walk(tree) if isinstance(node, (ast.Set, ast.SetComp))]
+            used = [node.args[0] for node in ast.walk(tree) if isinstance(node, ast.Call) and node.args
+                    and isinstance(node.func, ast.Name) and node.func.id in ("sorted", "len")]
+            self.assertTrue(all(node in used for node in kept), name)
+
     def test_strings(self):
         for name, tree in trees():
             for text in words_of(tree):

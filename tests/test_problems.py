@@ -8,30 +8,9 @@ from planwright.errors import BadDeed, BadFact, BadPlan, BadSize, NoSuch
 from planwright.problems import (
     Problem, comes, dead_ends, from_state, reached, shorter, useless, way_to, with_goal, without,
 )
-
-
-def lamp():
-    """Return a problem of a lamp in a room: one way in, one way to break it."""
-    return Problem(
-        ["out"],
-        [
-            Deed("go", ["out"], [], ["in"], ["out"], 2),
-            Deed("light", ["in"], ["broken"], ["lit"], [], 0),
-            Deed("break", ["in"], [], ["broken"], ["lit"], 1),
-            Deed("fly", ["wings"], [], ["lit"], [], 9),
-        ],
-        ["lit"],
-        ["broken"],
-    )
-
+from samples import chain, lamp, wheels
 
 OUT, IN, LIT, BROKEN = ("out",), ("in",), ("in", "lit"), ("broken", "in")
-
-
-def chain(count):
-    """Return a problem whose states are a row of so many."""
-    deeds = [plain("d%d" % k, ["s%d" % k], ["s%d" % (k + 1)], ["s%d" % k]) for k in range(count - 1)]
-    return Problem(["s0"], deeds, ["s%d" % (count - 1)])
 
 
 def bits(count):
@@ -41,16 +20,6 @@ def bits(count):
         deeds.append(Deed("in%d" % k, [], ["f%d" % k], ["f%d" % k], []))
         deeds.append(Deed("out%d" % k, ["f%d" % k], [], [], ["f%d" % k]))
     return Problem([], deeds, [])
-
-
-def wheels(sizes):
-    """Return a problem of wheels that turn one step at a time: its states are as many as their sizes' product."""
-    deeds = []
-    for wheel, size in enumerate(sizes):
-        for k in range(size):
-            here, there = "w%d-%d" % (wheel, k), "w%d-%d" % (wheel, (k + 1) % size)
-            deeds.append(plain("turn" + here, [here], [there], [here]))
-    return Problem(["w%d-0" % wheel for wheel in range(len(sizes))], deeds, [])
 
 
 class ProblemTest(unittest.TestCase):
