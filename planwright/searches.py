@@ -17,20 +17,17 @@ def cheapest(problem, most=2000, height=None):
     left = queued([], 0, 0, problem.start, height)
     count = 0
     while left != []:
-        cost, state = left[0][2:]
+        state = left[0][2]
         left = left[1:]
-        # A cheaper way may have been found since this one came.
-        if cost > costs[state]:
-            continue
         if problem.is_goal(state):
-            return (cost, way_to(found, state))
+            return (costs[state], way_to(found, state))
         for deed in problem.choices(state):
             after = deed.done(state)
             if after not in costs and len(costs) == most:
                 raise BadSize("too many states")
-            if after not in costs or cost + deed.cost < costs[after]:
+            if after not in costs or costs[state] + deed.cost < costs[after]:
                 count += 1
-                costs[after] = cost + deed.cost
+                costs[after] = costs[state] + deed.cost
                 found[after] = (deed.name, state)
                 left = queued(left, costs[after], count, after, height)
     raise NoPlan("no plan comes to the goal")
@@ -39,14 +36,14 @@ def cheapest(problem, most=2000, height=None):
 def queued(left, cost, count, state, height):
     """Return a row with a state put in by its cost and height, none for a height of None.
 
-    The rows within are (cost and height, count, cost, state), in order; without a function of heights, cost alone
-    tells the place.
+    The rows within are (cost and height, count, state), in order; without a function of heights, cost alone tells the
+    place.
     """
     rows = list(left)
     more = 0 if height is None else height(state)
     if more is None:
         return rows
-    row = (cost + more, count, cost, state)
+    row = (cost + more, count, state)
     low, high = 0, len(rows)
     while low < high:
         middle = (low + high) // 2
@@ -148,21 +145,19 @@ def backward(problem, most=2000):
     left = queued([], 0, 0, goal, None)
     count = 0
     while left != []:
-        cost, row = left[0][2:]
+        row = left[0][2]
         left = left[1:]
-        if cost > costs[row]:
-            continue
         if is_met(problem.start, row):
-            return (cost, way_to(found, row)[::-1])
+            return (costs[row], way_to(found, row)[::-1])
         for deed in problem.deeds.values():
             ahead = back_from(row[0], row[1], deed)
             if ahead is None:
                 continue
             if ahead not in costs and len(costs) == most:
                 raise BadSize("too many rows")
-            if ahead not in costs or cost + deed.cost < costs[ahead]:
+            if ahead not in costs or costs[row] + deed.cost < costs[ahead]:
                 count += 1
-                costs[ahead] = cost + deed.cost
+                costs[ahead] = costs[row] + deed.cost
                 found[ahead] = (deed.name, row)
                 left = queued(left, costs[ahead], count, ahead, None)
     raise NoPlan("no plan comes to the goal")
@@ -179,7 +174,7 @@ def eager(problem, height, most=2000):
     froms = {problem.start: None}
     left = queued([], 0, 0, problem.start, height)
     while left != []:
-        state = left[0][3]
+        state = left[0][2]
         left = left[1:]
         if problem.is_goal(state):
             return way_to(froms, state)

@@ -183,6 +183,10 @@ class QueuedTest(unittest.TestCase):
             left = queued(left, cost, count, state, by_table({"a": 9, "c": 1}))
         self.assertEqual([row[-1] for row in left], [("b",), ("c",), ("a",)])
 
+    def test_a_row_within_is_cost_and_height_count_and_state(self):
+        self.assertEqual(queued([], 2, 7, ("a",), by_table({"a": 3})), [(5, 7, ("a",))])
+        self.assertEqual(queued([(5, 7, ("a",))], 4, 8, ("b",), None), [(4, 8, ("b",)), (5, 7, ("a",))])
+
     def test_like_ones_stand_as_they_came(self):
         left = []
         for count in (4, 2, 9, 0, 7):
