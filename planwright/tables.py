@@ -85,7 +85,7 @@ def is_even(problem, height, states):
 
     None ones are left out.
     """
-    for state in states:
+    for state in [tuple(row) for row in states]:
         here = height(state)
         if here is not None and problem.is_goal(state) and here != 0:
             return False
@@ -117,7 +117,7 @@ def sharpest(problem, functions, state):
     best = None
     most = 0
     for place, function in enumerate(functions):
-        here = function(problem, state)
+        here = function(problem, tuple(state))
         if best is None or (most is not None and (here is None or here > most)):
             best = place
             most = here

@@ -260,6 +260,7 @@ class EvenTest(unittest.TestCase):
 
     def test_the_states_told_alone(self):
         self.states = (["b"], ["d"])
+        self.assertIs(is_even(self.problem, {("b",): 3, ("c",): 0, ("d",): 2}.get, self.states), True)
         self.assertIs(self.even(a=99, b=3, c=0, d=2), True)
         self.assertIs(self.even(a=0, b=4, c=0, d=3), False)
 
@@ -339,6 +340,8 @@ class SharpestTest(unittest.TestCase):
 
         self.assertEqual(sharpest(problem, (height,), START), 0)
         self.assertEqual(asked, [(True, START)])
+        self.assertEqual(sharpest(problem, [height], list(START)), 0)
+        self.assertEqual(asked, [(True, START)] * 2)
 
 
 if __name__ == "__main__":
