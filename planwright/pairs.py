@@ -91,11 +91,14 @@ def check_apart(problem, rows, none=()):
 
 
 def makes(deed, pair):
-    """Tell whether behind a deed a pair may be there that needn't be ahead of it."""
+    """Tell whether a deed makes a pair: it adds one of it, and adds the other too or neither drops nor bars it.
+
+    Whether it needs what it adds is not asked: behind it the pair may be there in either case.
+    """
     gone = deed.drops + deed.bars
     if any(fact in gone and fact not in deed.adds for fact in pair):
         return False
-    return any(fact in deed.adds and fact not in deed.needs for fact in pair)
+    return any(fact in deed.adds for fact in pair)
 
 
 def stopped(deed, pair, table, none):

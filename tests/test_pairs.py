@@ -253,27 +253,46 @@ class CheckApartTest(unittest.TestCase):
 
     def test_what_makes_tells(self):
         deed = Deed("d", ["a", "b"], ["c"], ["b", "c", "x"], ["a", "y"])
-        facts = ("a", "b", "c", "q", "x", "y")
-        for pair in [(one, other) for one in facts for other in facts]:
-            told = False
-            for state in subsets(facts):
-                after = behind(state, deed)
-                if after is not None and set(pair) <= set(after) and not set(pair) <= set(state):
-                    told = True
-            self.assertIs(makes(deed, pair), told, pair)
-            self.assertIs(makes(deed, list(pair)), told, pair)
+        for one in ("a", "b", "c", "q", "x", "y"):
+            for other in ("a", "b", "c", "q", "x", "y"):
+                told = (one in "bcx" or other in "bcx") and one not in "ay" and other not in "ay"
+                self.assertIs(makes(deed, (one, other)), told, (one, other))
+                self.assertIs(makes(deed, [one, other]), told, (one, other))
+
+    def test_what_a_deed_makes_that_needs_what_it_adds(self):
+        self.assertIs(makes(Deed("p", ["a", "b"], [], ["a", "b"], [], 0), ("a", "b")), True)
+        self.assertIs(makes(Deed("p", ["a"], [], ["a"], []), ("a", "c")), True)
+        self.assertIs(makes(Deed("p", ["a"], [], ["a"], []), ("a", "a")), True)
+        self.assertIs(makes(Deed("p", ["a"], ["c"], ["a"], []), ("a", "c")), False)
+        self.assertIs(makes(Deed("p", ["a"], [], ["b"], ["a"]), ("a", "b")), False)
+        self.assertIs(makes(Deed("p", ["a", "c"], [], ["b"], []), ("a", "c")), False)
 
     def test_what_makes_tells_of_many_deeds(self):
         for seed in range(12):
             problem = rand_problem(seed)
             facts = problem.all_facts()
             for deed in problem.deeds.values():
-                steps = [(set(state), behind(state, deed)) for state in subsets(facts)]
+                left = [fact for fact in facts if fact in deed.adds or fact not in deed.drops + deed.bars]
                 for pair in [(one, other) for one in facts for other in facts]:
-                    told = any(
-                        after is not None and set(pair) <= set(after) and not set(pair) <= state for state, after in steps
-                    )
+                    told = set(pair) <= set(left) and bool(set(pair) & set(deed.adds))
                     self.assertIs(makes(deed, pair), told, (seed, pair))
+
+    def test_pairs_that_are_there_behind_a_deed_alone_are_made(self):
+        for seed in range(12):
+            problem = rand_problem(seed)
+            facts = problem.all_facts()
+            for deed in problem.deeds.values():
+                for state in subsets(facts):
+                    after = behind(state, deed)
+                    for pair in [] if after is None else [(one, other) for one in after for other in after]:
+                        self.assertTrue(set(pair) <= set(state) or makes(deed, pair), (seed, pair))
+
+    def test_a_paper_is_taken_where_the_pair_stops_what_needs_it(self):
+        problem = Problem(["a"], [Deed("p", ["a", "b"], [], ["a", "b"], [], 0)], ["b"])
+        self.assertEqual(check_apart(problem, [("a", "b")]), 1)
+        self.assertEqual(check_apart(problem, [("a", "b")], ["b"]), 1)
+        problem = Problem(["a"], [Deed("p", ["a"], [], ["a"], [])], ["c"])
+        self.assertEqual(check_apart(problem, [("a", "c")]), 1)
 
     def test_stopped(self):
         deed = Deed("d", ["a", "b"], [], ["x"], ["a"])
