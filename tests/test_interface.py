@@ -4,11 +4,14 @@ import importlib
 import inspect
 import unittest
 
+from planwright.chances import Chancy
 from planwright.deeds import Deed
 from planwright.layers import Layers
 from planwright.marks import Priced, PricedDeed
+from planwright.nets import Net
 from planwright.orders import Order
 from planwright.problems import Problem
+from planwright.schemas import LETTERS, MARKS, Schema
 from planwright.tables import Table
 
 FUNCTIONS = {
@@ -139,6 +142,56 @@ FUNCTIONS = {
         "longest": "(order, place, found)",
         "looseness": "(order)",
     },
+    "planwright.schemas": {
+        "check_word": "(word)",
+        "check_row": "(row)",
+        "told_fact": "(row, table)",
+        "parted": "(fact)",
+        "all_of": "(schema, things)",
+        "made_or_none": "(schema, things)",
+        "grounded": "(schemas, things, start, goal, bars=())",
+        "still": "(schemas)",
+        "lessened": "(problem, words)",
+        "read_schema": "(text)",
+        "number": "(word)",
+        "told_schema": "(schema)",
+        "kinds_of": "(things)",
+    },
+    "planwright.nets": {
+        "check_ring": "(net, ring)",
+        "lasting": "(order, lengths, gap=0)",
+        "soonest_end": "(order, lengths, gap=0)",
+        "critical": "(order, lengths, gap=0)",
+        "side_lengths": "(problem, plan, table)",
+        "tightened": "(net, one, other, most)",
+        "as_one": "(problem, plan, lengths)",
+    },
+    "planwright.chances": {
+        "other_end": "(deed, adds, drops)",
+        "sure": "(chancy, most=500)",
+        "tried_on": "(chancy, most=500)",
+        "best_steps": "(chancy, alive)",
+        "policy": "(table, start)",
+        "check_sure": "(chancy, names, ranks)",
+        "check_tried": "(chancy, names)",
+        "beaten": "(chancy, most=500)",
+        "outcomes": "(chancy, names, count)",
+    },
+    "planwright.beliefs": {
+        "check_states": "(states)",
+        "done_in_all": "(states, deed)",
+        "known": "(states)",
+        "open_facts": "(states)",
+        "blind_plan": "(problem, states, most=500)",
+        "check_blind": "(problem, states, plan)",
+        "looked": "(states, fact)",
+        "looking_plan": "(problem, states, looks, depth)",
+        "plan_so_deep": "(problem, states, looks, depth)",
+        "check_looking": "(problem, states, plan)",
+        "run_looking": "(problem, state, plan)",
+        "split_deed": "(deed, fact, adds, drops)",
+        "depth_of_plan": "(plan)",
+    },
 }
 CLASSES = {
     "planwright.errors": {
@@ -205,6 +258,32 @@ CLASSES = {
             "shown": "(self)",
         },
     },
+    "planwright.schemas": {
+        "Schema": {
+            "__init__": "(self, name, letters, needs, bars, adds, drops, cost=1)",
+            "made": "(self, things)",
+            "shown": "(self)",
+        },
+    },
+    "planwright.nets": {
+        "Net": {
+            "__init__": "(self, count, rows)",
+            "ring": "(self)",
+            "far": "(self)",
+            "soonest": "(self)",
+            "fits": "(self, times)",
+            "slack": "(self, one, other)",
+            "shown": "(self)",
+        },
+    },
+    "planwright.chances": {
+        "Chancy": {
+            "__init__": "(self, problem, ends)",
+            "after": "(self, state, name)",
+            "choices": "(self, state)",
+            "states": "(self, most=500)",
+        },
+    },
 }
 
 
@@ -237,6 +316,13 @@ class InterfaceTest(unittest.TestCase):
             set(vars(Layers(Problem([], [], []), 0))), {"problem", "facts", "barred", "deeds", "apart"},
         )
         self.assertEqual(set(vars(Order(Problem([], [], []), [], []))), {"problem", "plan", "pairs"})
+        self.assertEqual(set(vars(Schema("x", [], [], [], [], []))), {"name", "letters", "rows", "cost"})
+        self.assertEqual(set(vars(Net(1, []))), {"count", "rows"})
+        self.assertEqual(set(vars(Chancy(Problem([], [], []), {}))), {"problem", "ends"})
+
+    def test_constants(self):
+        self.assertEqual(LETTERS, "abcdefghijklmnopqrstuvwxyz0123456789_-")
+        self.assertEqual(MARKS, (("needs",), ("bars",), ("adds",), ("drops",)))
 
     def test_arguments_may_be_told_by_name(self):
         deed = Deed(name="x", needs=["n"], bars=["b"], adds=["a"], drops=["d"], cost=3)
