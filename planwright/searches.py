@@ -70,19 +70,20 @@ def all_costs(problem, most=2000):
     for state in states:
         for deed in problem.choices(state):
             ahead[deed.done(state)].append((state, deed.cost))
-    costs = costs_back(ahead, [state for state in states if problem.is_goal(state)])
+    costs = costs_back(ahead, {state: 0 for state in states if problem.is_goal(state)})
     return {state: costs.get(state) for state in states}
 
 
-def costs_back(ahead, goals):
-    """Return a table of states to the least costs from them to some states.
+def costs_back(ahead, ends):
+    """Return a table of states to the least costs from them to an end, with what it costs to end there.
 
-    The table handed in leads from each state to the (state, cost) rows of deeds that lead to it.
+    The tables handed in lead from each state to the (state, cost) rows of deeds that lead to it, and from each end to
+    its cost.
     """
-    costs = {state: 0 for state in goals}
+    costs = {state: cost for state, cost in ends.items()}
     left = []
-    for state in goals:
-        heappush(left, (0, state))
+    for state, cost in ends.items():
+        heappush(left, (cost, state))
     while left != []:
         cost, behind = heappop(left)
         if cost == costs[behind]:

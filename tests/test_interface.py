@@ -6,6 +6,7 @@ import unittest
 
 from planwright.chances import Chancy
 from planwright.deeds import Deed
+from planwright.desks import BASE, PARTS, WIDE, Desk
 from planwright.layers import Layers
 from planwright.marks import Priced, PricedDeed
 from planwright.nets import Net
@@ -13,6 +14,7 @@ from planwright.orders import Order
 from planwright.problems import Problem
 from planwright.schemas import LETTERS, MARKS, Schema
 from planwright.tables import Table
+from planwright.trees import Methods
 
 FUNCTIONS = {
     "planwright.deeds": {
@@ -192,6 +194,49 @@ FUNCTIONS = {
         "split_deed": "(deed, fact, adds, drops)",
         "depth_of_plan": "(plan)",
     },
+    "planwright.trees": {
+        "name_of": "(tree)",
+        "plan_of_tree": "(tree)",
+        "depth_of_tree": "(tree)",
+        "told_tree": "(tree)",
+        "plans_of": "(methods, task, state, depth)",
+        "goal_tree": "(methods, task, depth)",
+        "free_methods": "(problem)",
+    },
+    "planwright.likes": {
+        "exchanged": "(fact, table)",
+        "exchanged_state": "(state, table)",
+        "exchanged_deed": "(deed, table)",
+        "exchanged_problem": "(problem, table)",
+        "stays": "(problem, table)",
+        "tables_on": "(words)",
+        "orders_of": "(row)",
+        "likes_of": "(problem, words)",
+        "least_like": "(state, tables)",
+        "cheapest_by_likes": "(problem, tables, most=500)",
+        "way_by": "(froms, key)",
+        "exchanged_plan": "(plan, table)",
+        "lots_of_like": "(states, tables)",
+    },
+    "planwright.wishes": {
+        "worth_of": "(worths, state)",
+        "gain_of": "(problem, worths, plan)",
+        "best_gain": "(problem, worths, most=500)",
+        "costs_to": "(problem, most=500)",
+        "within_cost": "(problem, worths, budget, most=500)",
+        "all_lots": "(problem, wanted, most=500)",
+        "check_gain": "(problem, worths, plan, heights)",
+        "gain_heights": "(problem, worths, most=500)",
+        "with_wish": "(problem, fact)",
+        "dear": "(problem, fact, most=500)",
+    },
+    "planwright.desks": {
+        "figure_of": "(text)",
+        "read_deed": "(words)",
+        "told_deed": "(deed)",
+        "lines_of": "(text)",
+        "done_again": "(text)",
+    },
 }
 CLASSES = {
     "planwright.errors": {
@@ -284,6 +329,27 @@ CLASSES = {
             "states": "(self, most=500)",
         },
     },
+    "planwright.trees": {
+        "Methods": {
+            "__init__": "(self, problem, rows)",
+            "of": "(self, task)",
+            "tree": "(self, task, state, depth)",
+            "trees": "(self, task, state, depth)",
+            "rows_of": "(self, parts, state, depth)",
+            "check": "(self, tree, state)",
+            "best": "(self, task, state, depth)",
+            "shown": "(self)",
+        },
+    },
+    "planwright.desks": {
+        "Desk": {
+            "__init__": "(self)",
+            "say": "(self, line)",
+            "do": "(self, line)",
+            "let": "(self, problem, words)",
+            "answer": "(self, words)",
+        },
+    },
 }
 
 
@@ -319,10 +385,13 @@ class InterfaceTest(unittest.TestCase):
         self.assertEqual(set(vars(Schema("x", [], [], [], [], []))), {"name", "letters", "rows", "cost"})
         self.assertEqual(set(vars(Net(1, []))), {"count", "rows"})
         self.assertEqual(set(vars(Chancy(Problem([], [], []), {}))), {"problem", "ends"})
+        self.assertEqual(set(vars(Methods(Problem([], [], []), []))), {"problem", "rows"})
+        self.assertEqual(set(vars(Desk())), {"problem", "state", "text", "many"})
 
     def test_constants(self):
         self.assertEqual(LETTERS, "abcdefghijklmnopqrstuvwxyz0123456789_-")
         self.assertEqual(MARKS, (("needs",), ("bars",), ("adds",), ("drops",)))
+        self.assertEqual((BASE, WIDE, PARTS), (9973, 2000003, ("needs", "bars", "adds", "drops")))
 
     def test_arguments_may_be_told_by_name(self):
         deed = Deed(name="x", needs=["n"], bars=["b"], adds=["a"], drops=["d"], cost=3)
