@@ -153,17 +153,21 @@ def check_sure(chancy, names, ranks):
 
     Each name leads only to goals or to states of lower ranks.
     """
-    greatest = 0
-    for state, row in come_to(chancy, names).items():
-        if chancy.problem.is_goal(state):
-            continue
-        if state not in ranks:
-            raise BadPaper("a state's rank is missing")
-        for after in row:
-            if not chancy.problem.is_goal(after) and not ranks.get(after, ranks[state]) < ranks[state]:
-                raise BadPaper("not lower")
-        greatest = max(greatest, ranks[state])
-    return greatest
+    found = {}
+    row = [chancy.problem.start]
+    place = 0
+    while place < len(row):
+        state = row[place]
+        if state not in found and not chancy.problem.is_goal(state):
+            if state not in names or state not in ranks:
+                raise BadPaper("a state is missing")
+            found[state] = ranks[state]
+            for after in chancy.after(state, names[state]):
+                if not chancy.problem.is_goal(after) and not ranks.get(after, ranks[state]) < ranks[state]:
+                    raise BadPaper("not lower")
+                row.append(after)
+        place += 1
+    return max(found.values(), default=0)
 
 
 def check_tried(chancy, names):

@@ -266,6 +266,9 @@ class SureTest(unittest.TestCase):
                 self.assertEqual(check_sure(chancy, names, ranks), count)
                 self.assertGreaterEqual(check_tried(chancy, names), 1)
                 ends = outcomes(chancy, names, count)
+                for some in range(count + 1):
+                    here = outcomes(chancy, names, some)
+                    self.assertEqual(list(here), sorted(set(here)))
                 self.assertTrue(all(meets(chancy.problem, state) for state in ends))
                 if count > 0:
                     self.assertFalse(all(meets(chancy.problem, state) for state in outcomes(chancy, names, count - 1)))
@@ -448,6 +451,8 @@ class PolicyTest(unittest.TestCase):
         for count, told in ((0, "a"), (1, "bc"), (2, "bg"), (3, "g"), (9, "g")):
             self.assertEqual(outcomes(chancy, names, count), tuple((name,) for name in told))
         self.assertEqual(kinds(outcomes(chancy, names, 1)), kinds((("b",), ("c",))))
+        wide = places([("go", "a", ["f", "e", "b", "d", "c"])], "a", "g")
+        self.assertEqual(outcomes(wide, {("a",): "go"}, 1), (("b",), ("c",), ("d",), ("e",), ("f",)))
         self.assertEqual(outcomes(chancy, {}, 0), (("a",),))
         for count in (-1, -5):
             with self.assertRaises(BadSize):
