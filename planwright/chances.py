@@ -69,19 +69,25 @@ def by_steps(chancy, ways, every):
 
     A name leads on where every state that it may lead to does, or where one does; fewest steps, then as told.
     """
-    found = {state: (None, 0) for state in ways if chancy.problem.is_goal(state)}
+    ahead = {state: [] for state in ways}
+    for state, rows in ways.items():
+        for _, row in rows:
+            for after in row:
+                ahead[after].append(state)
+    found = {}
+    layer = {state: (None, 0) for state in ways if chancy.problem.is_goal(state)}
     steps = 0
-    more = True
-    while more:
-        steps += 1
-        layer = {}
-        for state, rows in ways.items():
-            names = [] if state in found else [name for name, row in rows if leads_in(row, found, every)]
-            if names != []:
-                layer[state] = (names[0], steps)
+    while layer != {}:
         for state, told in layer.items():
             found[state] = told
-        more = layer != {}
+        steps += 1
+        # Only what leads to a state of the last layer can lead on since then.
+        near = {one: True for state in layer for one in ahead[state] if one not in found}
+        layer = {}
+        for state in near:
+            names = [name for name, row in ways[state] if leads_in(row, found, every)]
+            if names != []:
+                layer[state] = (names[0], steps)
     return {state: found[state] for state in ways if state in found}
 
 
@@ -97,12 +103,13 @@ def tried_on(chancy, most=500):
 
     (None, 0) stands for goals; only names that never lead out, fewest steps at best, then as told.
     """
-    alive = {state: True for state in chancy.states(most)}
-    found = best_steps(chancy, alive)
+    ways = {state: ways_of(chancy, state) for state in chancy.states(most)}
+    alive = ways
+    found = by_steps(chancy, kept_ways(ways, alive), False)
     # With a state that was left out, a name that led to it leads out, so that others may have to be left out too.
     while len(found) != len(alive):
         alive = found
-        found = best_steps(chancy, alive)
+        found = by_steps(chancy, kept_ways(ways, alive), False)
     return found
 
 
@@ -111,11 +118,13 @@ def best_steps(chancy, alive):
 
     Only by names that never lead out of them; (None, 0) stands for goals.
     """
-    ways = {
-        state: [(name, row) for name, row in ways_of(chancy, state) if leads_in(row, alive, True)]
-        for state in alive
-    }
-    return by_steps(chancy, ways, False)
+    ways = {state: ways_of(chancy, state) for state in alive}
+    return by_steps(chancy, kept_ways(ways, alive), False)
+
+
+def kept_ways(ways, alive):
+    """Return the ways of each state of a table that never lead out of them."""
+    return {state: [(name, row) for name, row in ways[state] if leads_in(row, alive, True)] for state in alive}
 
 
 def policy(table, start):
